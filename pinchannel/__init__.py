@@ -1,0 +1,1 @@
+"""A channel of tracks between two rows of pins. The way in is pinchannel.desk.answers."""
