@@ -1,10 +1,11 @@
 """A channel: its two rows of pins, and whether its nets are whole or cut."""
 
-from pinchannel.refusals import NO_SUCH_COLUMN, OUT_OF_RANGE, WRONG_LENGTH
+from pinchannel.refusals import NET_IS_THERE, NO_SUCH_COLUMN, NO_SUCH_NET, OUT_OF_RANGE, WRONG_ROW
 
 DONE = 0
 MOST_COLUMNS = 48
 NO_PIN = 0
+LEAST_NET = 1
 GREATEST_NET = 999
 UPPER_SIDE = 0
 LOWER_SIDE = 1
@@ -12,12 +13,20 @@ WHOLE_NETS = 0
 CUT_NETS = 1
 
 
+def is_net_number(number):
+    return LEAST_NET <= number <= GREATEST_NET
+
+
 def is_pin(number):
-    return NO_PIN <= number <= GREATEST_NET
+    return number == NO_PIN or is_net_number(number)
 
 
 def are_pins(numbers):
     return all([is_pin(number) for number in numbers])
+
+
+def renamed(pins, net, new):
+    return [new if pin == net else pin for pin in pins]
 
 
 class Channel:
@@ -28,9 +37,12 @@ class Channel:
         self.lower_pins = []
         self.mode = WHOLE_NETS
 
+    def has_net(self, net):
+        return net != NO_PIN and (net in self.upper_pins or net in self.lower_pins)
+
     def put_rows(self, upper_pins, lower_pins):
         if len(upper_pins) != len(lower_pins) or len(upper_pins) > MOST_COLUMNS:
-            return WRONG_LENGTH
+            return WRONG_ROW
         if not are_pins(upper_pins) or not are_pins(lower_pins):
             return OUT_OF_RANGE
         self.upper_pins = list(upper_pins)
@@ -55,4 +67,26 @@ class Channel:
             self.upper_pins[column] = net
         else:
             self.lower_pins[column] = net
+        return DONE
+
+    def mirror(self):
+        self.upper_pins = list(reversed(self.upper_pins))
+        self.lower_pins = list(reversed(self.lower_pins))
+        return DONE
+
+    def turn(self):
+        former_upper = self.upper_pins
+        self.upper_pins = self.lower_pins
+        self.lower_pins = former_upper
+        return DONE
+
+    def rename(self, net, new):
+        if not self.has_net(net):
+            return NO_SUCH_NET
+        if not is_net_number(new):
+            return OUT_OF_RANGE
+        if new != net and self.has_net(new):
+            return NET_IS_THERE
+        self.upper_pins = renamed(self.upper_pins, net, new)
+        self.lower_pins = renamed(self.lower_pins, net, new)
         return DONE

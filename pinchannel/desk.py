@@ -1,9 +1,12 @@
 """The desk: takes a list of calls on one new channel, and gives back what they answer."""
 
 from pinchannel.channel import Channel
+from pinchannel.fewest import MOST_PIECES, least_row
 from pinchannel.order import levels_of, pairs_above, ring_of
-from pinchannel.pieces import densities_of, nets_of, pieces_of
-from pinchannel.refusals import HAS_RING
+from pinchannel.pieces import densities_of, density_of, nets_of, pieces_of
+from pinchannel.refusals import HAS_RING, NOT_RIGHT, TOO_MANY_PIECES, WRONG_ROW
+from pinchannel.tracks import faults_of, is_row, left_edge_row, lifted, pairs_apart, tracks_of
+from pinchannel.wires import count_touched, length_of, upright_wires, wires_along
 
 ROWS = 0
 MODE = 1
@@ -14,6 +17,15 @@ DENSITY = 5
 ABOVE = 6
 LEVELS = 7
 RING = 8
+LEFT = 9
+LEAST = 10
+CHECK = 11
+LIFT = 12
+DRAW = 13
+LENGTH = 14
+MIRROR = 15
+TURN = 16
+RENAME = 17
 
 
 class UnknownCall(ValueError):
@@ -53,6 +65,10 @@ def as_list(told):
     return numbers
 
 
+def as_row(row):
+    return [tracks_of(row)] + as_list(row)
+
+
 def answer_nets(channel):
     nets = nets_of(channel)
     numbers = [len(nets)]
@@ -63,8 +79,7 @@ def answer_nets(channel):
 
 
 def answer_density(channel):
-    densities = densities_of(channel)
-    return [max(densities, default=0)] + as_list(densities)
+    return [density_of(channel)] + as_list(densities_of(channel))
 
 
 def answer_above(channel):
@@ -84,6 +99,52 @@ def answer_ring(channel):
     return as_list(ring_of(len(pieces), pairs_above(channel, pieces)))
 
 
+def answer_left(channel):
+    pieces = pieces_of(channel)
+    above = pairs_above(channel, pieces)
+    if levels_of(len(pieces), above) is None:
+        return [HAS_RING]
+    return as_row(left_edge_row(pieces, above))
+
+
+def answer_least(channel):
+    pieces = pieces_of(channel)
+    above = pairs_above(channel, pieces)
+    if levels_of(len(pieces), above) is None:
+        return [HAS_RING]
+    if len(pieces) > MOST_PIECES:
+        return [TOO_MANY_PIECES]
+    return as_row(least_row(len(pieces), pairs_apart(pieces), above, density_of(channel)))
+
+
+def answer_draw(channel, pieces, row):
+    return as_list(wires_along(pieces, row)) + as_list(upright_wires(channel, pieces, row))
+
+
+def answer_length(channel, pieces, row):
+    wires = wires_along(pieces, row) + upright_wires(channel, pieces, row)
+    return [sum([length_of(wire) for wire in wires]), count_touched(channel, pieces)]
+
+
+def answer_about_row(channel, call, row):
+    """What check, lift, draw and length answer: they look at the row alike."""
+    pieces = pieces_of(channel)
+    if not is_row(row, len(pieces)):
+        return [WRONG_ROW]
+    apart = pairs_apart(pieces)
+    above = pairs_above(channel, pieces)
+    faults = faults_of(row, apart, above)
+    if call == CHECK:
+        return as_list(faults)
+    if len(faults) > 0:
+        return [NOT_RIGHT]
+    if call == LIFT:
+        return as_row(lifted(row, apart, above))
+    if call == DRAW:
+        return answer_draw(channel, pieces, row)
+    return answer_length(channel, pieces, row)
+
+
 def answer_question(channel, call):
     if call == NETS:
         return answer_nets(channel)
@@ -97,22 +158,40 @@ def answer_question(channel, call):
         return answer_levels(channel)
     if call == RING:
         return answer_ring(channel)
+    if call == LEFT:
+        return answer_left(channel)
+    if call == LEAST:
+        return answer_least(channel)
     raise UnknownCall(f"no call has the number {call}")
 
 
-def answer_call(channel, reader):
-    call = reader.take_number()
+def answer_change(channel, call, reader):
     if call == ROWS:
         upper_pins = reader.take_row()
         lower_pins = reader.take_row()
-        return [channel.put_rows(upper_pins, lower_pins)]
+        return channel.put_rows(upper_pins, lower_pins)
     if call == MODE:
-        return [channel.put_mode(reader.take_number())]
+        return channel.put_mode(reader.take_number())
     if call == PIN:
         column = reader.take_number()
         side = reader.take_number()
         net = reader.take_number()
-        return [channel.put_pin(column, side, net)]
+        return channel.put_pin(column, side, net)
+    if call == MIRROR:
+        return channel.mirror()
+    if call == TURN:
+        return channel.turn()
+    net = reader.take_number()
+    new = reader.take_number()
+    return channel.rename(net, new)
+
+
+def answer_call(channel, reader):
+    call = reader.take_number()
+    if call in (ROWS, MODE, PIN, MIRROR, TURN, RENAME):
+        return [answer_change(channel, call, reader)]
+    if call in (CHECK, LIFT, DRAW, LENGTH):
+        return answer_about_row(channel, call, reader.take_row())
     return answer_question(channel, call)
 
 

@@ -36,3 +36,7 @@ def densities_of(channel):
         for column in range(columns[0], columns[-1] + 1):
             densities[column] += 1
     return densities
+
+
+def density_of(channel):
+    return max(densities_of(channel), default=0)

@@ -1,5 +1,7 @@
 """What the tests share: calls written by their names, and answers split call by call."""
 
+import unittest
+
 from pinchannel.desk import answers
 
 NETS = [3]
@@ -8,7 +10,11 @@ DENSITY = [5]
 ABOVE = [6]
 LEVELS = [7]
 RING = [8]
-QUESTIONS = [NETS, PIECES, DENSITY, ABOVE, LEVELS, RING]
+LEFT = [9]
+LEAST = [10]
+MIRROR = [15]
+TURN = [16]
+QUESTIONS = [NETS, PIECES, DENSITY, ABOVE, LEVELS, RING, LEFT, LEAST]
 
 LEAST_INT = -2147483648
 GREATEST_INT = 2147483647
@@ -24,6 +30,26 @@ def mode(k):
 
 def pin(column, side, net):
     return [2, column, side, net]
+
+
+def check(row):
+    return [11, len(row)] + list(row)
+
+
+def lift(row):
+    return [12, len(row)] + list(row)
+
+
+def draw(row):
+    return [13, len(row)] + list(row)
+
+
+def length(row):
+    return [14, len(row)] + list(row)
+
+
+def rename(net, new):
+    return [17, net, new]
 
 
 def line(calls):
@@ -55,3 +81,31 @@ def ask(*calls):
 def last(*calls):
     """The last call's answer."""
     return ask(*calls)[-1]
+
+
+def left_row(*before):
+    """The left-edge row behind these calls, or None if there's a ring."""
+    told = last(*before, LEFT)
+    return None if told == [-8] else told[2:]
+
+
+def all_questions(*before):
+    """Calls whose answers show every pin and the mode behind these calls."""
+    row = left_row(*before)
+    # Of questions without a row, none tells which side a lonely pin is on.
+    return QUESTIONS if row is None else QUESTIONS + [draw(row), length(row), check(row)]
+
+
+class ChannelTest(unittest.TestCase):
+    def assert_refused(self, before, refused, number):
+        """The refusal is its number alone, and every question is answered as without it."""
+        questions = all_questions(*before)
+        told = ask(*before, *questions, refused, *questions)
+        size = len(questions)
+        self.assertEqual(told[len(before) + size], [number], refused[:50])
+        self.assertEqual(told[-size:], told[len(before):len(before) + size])
+
+    def assert_same_channel(self, calls, others):
+        """Behind these calls every question is answered as behind those."""
+        questions = all_questions(*others)
+        self.assertEqual(ask(*calls, *questions)[len(calls):], ask(*others, *questions)[len(others):])

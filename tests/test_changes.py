@@ -2,22 +2,13 @@
 
 import unittest
 
-from support import (ABOVE, DENSITY, GREATEST_INT, LEAST_INT, NETS, PIECES, QUESTIONS,
+from support import (ABOVE, DENSITY, GREATEST_INT, LEAST_INT, NETS, PIECES, ChannelTest,
                      ask, last, mode, pin, rows)
 
 SOME_ROWS = rows([1, 2, 0, 1], [2, 0, 3, 3])
 
 
-class ChangeTest(unittest.TestCase):
-    def assert_refused(self, before, refused, number):
-        """The refusal is its number alone, and every question is answered as without it."""
-        told = ask(*before, *QUESTIONS, refused, *QUESTIONS)
-        size = len(QUESTIONS)
-        self.assertEqual(told[len(before) + size], [number])
-        self.assertEqual(told[-size:], told[len(before):len(before) + size])
-
-
-class RowsTest(ChangeTest):
+class RowsTest(ChannelTest):
     def test_columns_are_those_of_the_rows(self):
         told = ask(rows([5, 0, 7], [0, 5, 7]), NETS)
         self.assertEqual(told, [[0], [2, 5, 2, 0, 1, 7, 1, 2]])
@@ -64,7 +55,7 @@ class RowsTest(ChangeTest):
         self.assertEqual(told, [2, 1, 0, 1, 1, 1, 2])
 
 
-class ModeTest(ChangeTest):
+class ModeTest(ChannelTest):
     def test_whole_at_the_beginning(self):
         self.assertEqual(last(rows([1, 1, 1], [0, 0, 0]), PIECES), [1, 1, 0, 2])
 
@@ -82,7 +73,7 @@ class ModeTest(ChangeTest):
             self.assert_refused([SOME_ROWS, mode(1)], mode(wrong), -2)
 
 
-class PinTest(ChangeTest):
+class PinTest(ChannelTest):
     def test_sides(self):
         told = ask(rows([1, 2], [3, 4]), pin(0, 0, 5), pin(1, 1, 6), ABOVE, NETS)
         self.assertEqual(told[1:3], [[0], [0]])

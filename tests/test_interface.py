@@ -4,11 +4,15 @@ import contextlib
 import io
 import unittest
 
-from pinchannel.desk import answers
-from support import ABOVE, DENSITY, LEVELS, NETS, PIECES, QUESTIONS, RING, line, mode, pin, rows
+from pinchannel.desk import UnknownCall, answers
+from support import (ABOVE, DENSITY, LEAST, LEFT, LEVELS, MIRROR, NETS, PIECES, QUESTIONS, RING, TURN,
+                     check, draw, length, lift, line, mode, pin, rename, rows)
 
-MANY_CALLS = line([rows([1, 2, 0, 1], [2, 0, 3, 3]), *QUESTIONS, mode(1), *QUESTIONS, pin(2, 0, 3), *QUESTIONS,
-                   rows([1], []), pin(9, 9, 9), mode(7), *QUESTIONS])
+ROW_CALLS = [call(row) for call in (check, lift, draw, length) for row in ([3, 5, 7], [7, 5, 3, 1], [1], [0, 1, 2])]
+CHANGES = [MIRROR, TURN, rename(2, 9), rename(2, 9), rename(1, 9), rename(1, 0)]
+MANY_CALLS = line([rows([1, 2, 0, 1], [2, 0, 3, 3]), *QUESTIONS, *ROW_CALLS, mode(1), *QUESTIONS, *ROW_CALLS,
+                   pin(2, 0, 3), *QUESTIONS, *ROW_CALLS, rows([1], []), pin(9, 9, 9), mode(7), *QUESTIONS,
+                   *CHANGES, *QUESTIONS, *ROW_CALLS])
 
 
 class InterfaceTest(unittest.TestCase):
@@ -26,7 +30,38 @@ class InterfaceTest(unittest.TestCase):
         ])
 
     def test_every_question_at_the_beginning(self):
-        self.assertEqual(answers(line(QUESTIONS)), [1, 0, 1, 0, 2, 0, 0, 1, 0, 1, 0, 1, 0])
+        self.assertEqual(answers(line(QUESTIONS)), [1, 0, 1, 0, 2, 0, 0, 1, 0, 1, 0, 1, 0, 2, 0, 0, 2, 0, 0])
+
+    def test_counts_before_answers_about_rows_of_tracks(self):
+        calls = line([rows([1, 2], [2, 0]), LEFT, LEAST, check([3, 3]), check([1, 3]), lift([5, 9]), draw([1, 3]),
+                      length([1, 3]), lift([3, 3]), draw([1]), length([])])
+        self.assertEqual(answers(calls), [
+            1, 0,
+            4, 2, 2, 1, 2,
+            4, 2, 2, 1, 2,
+            7, 2, 1, 0, 1, 2, 0, 1,
+            1, 0,
+            4, 2, 2, 1, 2,
+            27, 2, 1, 0, 1, 0, 1, 2, 0, 3, 1, 3, 3, 1, 0, 0, 0, 1, 2, 0, 3, 0, 4, 2, 1, 0, 1, 3,
+            2, 6, 3,
+            1, -10,
+            1, -3,
+            1, -3,
+        ])
+
+    def test_counts_before_answers_of_changes(self):
+        calls = line([rows([1, 2], [2, 0]), MIRROR, TURN, rename(1, 5), rename(1, 5), rename(5, 0), rename(5, 2),
+                      NETS, ABOVE])
+        self.assertEqual(answers(calls), [
+            1, 0, 1, 0, 1, 0, 1, 0, 1, -1, 1, -2, 1, -7,
+            8, 2, 2, 2, 0, 1, 5, 1, 1,
+            3, 1, 0, 1,
+        ])
+
+    def test_a_number_that_no_call_has(self):
+        for number in (-1, 18):
+            with self.assertRaises(UnknownCall):
+                answers([number])
 
     def test_a_call_behind_refused_rows_is_read_at_its_place(self):
         calls = line([rows([1, 2, 3], [4]), DENSITY, rows([1000] * 3, [5] * 3), DENSITY, rows([1] * 60, []), DENSITY])
@@ -82,6 +117,9 @@ class InterfaceTest(unittest.TestCase):
     def test_rows_of_10000(self):
         calls = line([rows([0] * 10000, [0] * 10000), DENSITY])
         self.assertEqual(answers(calls), [1, -3, 2, 0, 0])
+        for call in (check, lift, draw, length):
+            calls = line([rows([1], [0]), call([1] * 10000), call([200] * 10000), call([0] * 10000), PIECES])
+            self.assertEqual(answers(calls), [1, 0, 1, -3, 1, -3, 1, -3, 4, 1, 1, 0, 0])
 
 
 if __name__ == "__main__":

@@ -29,7 +29,9 @@ WORDS_NOWHERE = set("""
 PARTS_NOWHERE = ("dataclass", "overload", "contextmanager")
 KEYWORDS = {"sorted": {"key", "reverse"}, "min": {"key", "default"}, "max": {"key", "default"},
             "sum": {"start"}, "enumerate": {"start"}, "zip": {"strict"}}
-WALKED_AT_ONCE = {"zip", "enumerate", "reversed", "range"}
+WALKED_AT_ONCE = {"zip", "enumerate", "reversed", "range", "items", "keys", "values"}
+WALKERS = {"list", "tuple", "dict", "sorted", "sum", "any", "all", "enumerate", "zip", "min", "max", "join"}
+CHANGING = {"append", "clear", "extend", "insert", "pop", "remove", "reverse", "setdefault", "update"}
 
 
 def module_of(path):
@@ -53,6 +55,13 @@ def top_names(tree):
             yield node.name
         if isinstance(node, ast.Assign):
             yield node.targets[0].id
+
+
+def called(node):
+    """The name of what is called, or None."""
+    if not isinstance(node, ast.Call):
+        return None
+    return node.func.attr if isinstance(node.func, ast.Attribute) else node.func.id
 
 
 class LanguageTest(unittest.TestCase):
@@ -154,9 +163,50 @@ class LanguageTest(unittest.TestCase):
                 self.assertLessEqual({k.arg for k in node.keywords}, KEYWORDS.get(node.func.id, set()), where)
 
     def test_walked_at_once(self):
-        for where, node in walk((ast.Assign, ast.Return)):
-            if isinstance(node.value, ast.Call) and isinstance(node.value.func, ast.Name):
-                self.assertNotIn(node.value.func.id, WALKED_AT_ONCE, where)
+        walked = set()
+        for where, node in walk((ast.For, ast.comprehension)):
+            walked.add(node.iter)
+        for where, node in walk(ast.Call):
+            if called(node) in WALKERS:
+                walked.update(node.args)
+        for where, node in walk(ast.Call):
+            if called(node) in WALKED_AT_ONCE:
+                self.assertIn(node, walked, where)
+
+    def test_what_a_loop_walks_stays(self):
+        for where, node in walk(ast.For):
+            walked = {ast.unparse(part) for part in ast.walk(node.iter) if isinstance(part, (ast.Name, ast.Attribute))}
+            if called(node.iter) == "range":
+                walked = set()
+            for part in [part for statement in node.body for part in ast.walk(statement)]:
+                if isinstance(part, ast.Subscript) and isinstance(part.ctx, ast.Store):
+                    self.assertNotIn(ast.unparse(part.value), walked, where)
+                if isinstance(part, ast.Call) and called(part) in CHANGING and isinstance(part.func, ast.Attribute):
+                    self.assertNotIn(ast.unparse(part.func.value), walked, where)
+
+    def test_locals_are_not_called_like_classes_or_imports(self):
+        for module, tree in TREES.items():
+            taken = {node.name for node in tree.body if isinstance(node, ast.ClassDef)}
+            taken |= {name.name for node in tree.body if isinstance(node, ast.ImportFrom) for name in node.names}
+            for node in ast.walk(tree):
+                if isinstance(node, ast.arg):
+                    self.assertNotIn(node.arg, taken, module)
+                if isinstance(node, ast.Name) and isinstance(node.ctx, ast.Store):
+                    self.assertNotIn(node.id, taken, module)
+
+    def test_values_of_a_file_are_plain_and_not_changed(self):
+        for module, tree in TREES.items():
+            for node in tree.body:
+                if isinstance(node, ast.Assign):
+                    self.assertIsInstance(node.value, (ast.Constant, ast.UnaryOp, ast.Tuple), module)
+
+    def test_no_sets_no_powers_and_no_percent_signs_in_texts(self):
+        for where, node in walk(ast.Call):
+            self.assertNotIn(called(node), ("set", "frozenset", "chr"), where)
+        for where, node in walk(ast.AST):
+            self.assertNotIsInstance(node, (ast.Set, ast.Pow), where)
+        for where, node in walk(ast.Constant):
+            self.assertFalse(isinstance(node.value, str) and "%" in node.value, where)
 
     def test_is(self):
         for where, node in walk(ast.Compare):
